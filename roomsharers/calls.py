@@ -9,6 +9,14 @@ PROVE = 5
 PARTNERS = 6
 COUNT = 7
 NTH = 8
+MEDIAN = 9
+BLOCKS = 10
+SETTLE = 11
+PREFER = 12
+BOOK = 13
+ROOMS = 14
+JOIN = 15
+LISTS = 16
 
 # For each call the least and the greatest of each of its whole numbers; how many they are is its layout, too.
 NUMBER_RANGES = {

@@ -20,6 +20,10 @@ def likes_better(lists, guest, one, other):
     return place_on_list(lists[guest], one) < place_on_list(lists[guest], other)
 
 
+def best_first(lists, guest, others):
+    return sorted(others, key=lambda other: place_on_list(lists[guest], other))
+
+
 def would_rather_share(lists, held, one, other):
     """held tells for each guest whom the other must be liked better than: the partner, or the one before."""
     if not may_share(lists, one, other):
@@ -36,3 +40,13 @@ def first_rather_pair(lists, held):
             if would_rather_share(lists, held, one, other):
                 return [one, other]
     return []
+
+
+def rather_pairs(lists, held):
+    """All two who would rather share, in order."""
+    found = []
+    for one in range(1, len(lists)):
+        for other in range(one + 1, len(lists)):
+            if would_rather_share(lists, held, one, other):
+                found.append([one, other])
+    return found

@@ -1,7 +1,7 @@
 """What an accepted call that asks something answers behind its 0."""
 
-from roomsharers.likings import first_rather_pair, place_on_list
-from roomsharers.pairings import all_pairings, is_pairing, stable_pairings
+from roomsharers.likings import best_first, first_rather_pair, likes_better, rather_pairs
+from roomsharers.pairings import all_pairings, is_pairing, settled, stable_pairings
 from roomsharers.rings import first_rings, first_unwilling, is_rings, odd_guests, ones_before
 
 
@@ -50,8 +50,42 @@ def tell_partners(lists, guest):
         partner = pairing[guest - 1]
         if partner not in partners:
             partners.append(partner)
-    return counted(sorted(partners, key=lambda other: place_on_list(lists[guest], other)))
+    return counted(best_first(lists, guest, partners))
 
 
 def tell_count(lists):
     return [len(all_pairings(lists)), len(stable_pairings(lists))]
+
+
+def tell_blocks(lists, pairing):
+    pairs = rather_pairs(lists, pairing)
+    told = [len(pairs)]
+    for pair in pairs:
+        told.extend(pair)
+    return told
+
+
+def tell_settle(lists, times, pairing):
+    outcome = settled(lists, pairing, times)
+    return [outcome[0]] + outcome[1]
+
+
+def tell_prefer(lists, guest, one, other):
+    if likes_better(lists, guest, one, other):
+        return [1]
+    if likes_better(lists, guest, other, one):
+        return [2]
+    return [0]
+
+
+def tell_rooms(lists, booked):
+    if not is_pairing(lists, booked):
+        return booked + [0]
+    return booked + [1] + tell_blocks(lists, booked)
+
+
+def tell_lists(lists):
+    told = [len(lists) - 1]
+    for guest in range(1, len(lists)):
+        told.extend(counted(lists[guest]))
+    return told

@@ -17,10 +17,18 @@ def give_list(guest, others):
 
 # The likings of 1, 2, 3 and those of 4, 5, 6 run against each other, so there are three stable pairings.
 THREE_STABLE = [[4, 5, 6], [5, 6, 4], [6, 4, 5], [2, 3, 1], [3, 1, 2], [1, 2, 3]]
+# Four stable pairings; the third is the middle of the other three.
+FOUR_STABLE = [[6, 2, 5, 3, 4], [3, 4, 6, 5, 1], [5, 6, 1, 2, 4], [3, 1, 2, 6, 5], [2, 1, 6, 3, 4], [4, 3, 1, 5, 2]]
+# Everybody likes all others, in the same order.
+SAME_ORDER = [[other for other in range(1, 8) if other != guest] for guest in range(1, 8)]
+# In circle(4): not told back, told another, who may not share, themselves, and two who aren't there.
+NO_PAIRINGS = ([2, 0, 0, 0], [2, 3, 2, 0], [3, 0, 1, 0], [1, 0, 0, 0], [5, 0, 0, 0], [7, 0, 0, 0])
 
 PAIRS = [2]
 RINGS = [3]
 COUNT = [7]
+ROOMS = [14]
+LISTS = [16]
 
 
 def check(row):
@@ -37,6 +45,30 @@ def partners(guest):
 
 def nth(k):
     return [8, k]
+
+
+def median(x, y, z):
+    return [9, x, y, z]
+
+
+def blocks(row):
+    return [10, len(row)] + list(row)
+
+
+def settle(times, row):
+    return [11, times, len(row)] + list(row)
+
+
+def prefer(guest, a, b):
+    return [12, guest, a, b]
+
+
+def book(row):
+    return [13, len(row)] + list(row)
+
+
+def join(one, other):
+    return [15, one, other]
 
 
 def group(*lists):
@@ -160,23 +192,59 @@ class Plain:
         ordered = [p for p in self.lists[guest] + [0] if p in found]
         return [len(ordered)] + ordered
 
+    def prefer(self, guest, a, b):
+        return 1 if self.better(guest, a, b) else 2 if self.better(guest, b, a) else 0
+
+    def blocks(self, row):
+        rather = self.rather(dict(zip(self.all, row)))
+        return [len(rather)] + [guest for pair in rather for guest in pair]
+
+    def together(self, row, one, other):
+        rooms = [{guest, partner} for guest, partner in zip(self.all, row) if partner and guest < partner]
+        rooms = [room for room in rooms if one not in room and other not in room] + [{one, other}]
+        return [next((sum(room) - guest for room in rooms if guest in room), 0) for guest in self.all]
+
+    def settle(self, times, row):
+        for done in range(times):
+            rather = self.rather(dict(zip(self.all, row)))
+            if not rather:
+                return [done] + row
+            row = self.together(row, *rather[0])
+        return [times] + row
+
+    def middle_of(self, guest, told):
+        for partner in told:
+            if told.count(partner) > 1:
+                return partner
+        for partner in told:
+            if sum(self.better(guest, partner, other) for other in told) == 1:
+                return partner
+
+    def middle(self, one, two, three):
+        return [self.middle_of(guest, told) for guest, told in zip(self.all, zip(one, two, three))]
+
 
 class PlainGroup:
-    """A group that takes the calls open to nth one by one, each as its number, its whole numbers and its list."""
+    """A group that takes calls one by one, each as its number, its whole numbers and its list."""
+
+    LIMITS = {0: [(1, 7)], 1: [(1, 7)], 6: [(1, 7)], 8: [(1, 1000)], 9: [(1, 1000)] * 3, 11: [(0, 50)],
+              12: [(1, 7), (0, 7), (0, 7)], 15: [(1, 7)] * 2}
 
     def __init__(self):
         self.lists = None
+        self.booked = None
 
     def answer(self, number, told, row):
-        limits = {0: (1, 7), 1: (1, 7), 6: (1, 7), 8: (1, 1000)}
-        if number in limits and not limits[number][0] <= told[0] <= limits[number][1]:
-            return [-1]
+        for given, (least, most) in zip(told, self.LIMITS.get(number, []), strict=True):
+            if not least <= given <= most:
+                return [-1]
         if len(row) > (6 if number == 1 else 7) or any(x not in range(8) for x in row):
             return [-1]
         if number == 0:
             if self.lists is not None:
                 return [-3]
             self.lists = [[] for guest in range(told[0])]
+            self.plain = Plain(self.lists)
             return [0]
         if self.lists is None:
             return [-2]
@@ -186,14 +254,55 @@ class PlainGroup:
         guests = len(self.lists)
         if number in (1, 6) and told[0] > guests:
             return [-4]
-        if number in (4, 5) and len(row) != guests:
+        if number in (4, 5, 10, 11, 13) and len(row) != guests:
             return [-6]
         if number == 1:
             if not set(row) <= set(range(1, guests + 1)) - {told[0]} or len(set(row)) != len(row):
                 return [-5]
             self.lists[told[0] - 1] = list(row)
+            self.plain = Plain(self.lists)
             return [0]
-        return self.look(Plain(self.lists), number, told, row)
+        if number in (10, 11, 13):
+            return self.on_pairing(self.plain, number, told, row)
+        if number in (14, 15):
+            return self.on_booked(self.plain, number, told)
+        if number == 12:
+            return self.prefer(self.plain, *told)
+        if number == 16:
+            return [0, guests] + [x for others in self.lists for x in [len(others)] + others]
+        return self.look(self.plain, number, told, row)
+
+    def on_pairing(self, plain, number, told, row):
+        if not plain.is_pairing(row):
+            return [-8]
+        if number == 10:
+            return [0] + plain.blocks(row)
+        if number == 11:
+            return [0] + plain.settle(told[0], row)
+        self.booked = list(row)
+        return [0, sum(partner == 0 for partner in row)]
+
+    def on_booked(self, plain, number, told):
+        if self.booked is None:
+            return [-10]
+        if number == 14:
+            told = [1] + plain.blocks(self.booked) if plain.is_pairing(self.booked) else [0]
+            return [0] + self.booked + told
+        if not set(told) <= set(plain.all):
+            return [-4]
+        if not plain.is_pairing(self.booked):
+            return [-8]
+        if tuple(sorted(told)) not in plain.rather(dict(zip(plain.all, self.booked))):
+            return [-9]
+        self.booked = plain.together(self.booked, *told)
+        return [0] + self.booked
+
+    def prefer(self, plain, guest, a, b):
+        if not {guest, a, b} <= set(plain.all + [0]):
+            return [-4]
+        if not all(plain.share(guest, x) for x in (a, b) if x != 0):
+            return [-9]
+        return [0, plain.prefer(guest, a, b)]
 
     def look(self, plain, number, told, row):
         if number == 3:
@@ -209,4 +318,7 @@ class PlainGroup:
             return [0, 1] + stable[0] if stable else [0, 0]
         if number == 7:
             return [0, len(plain.pairings()), len(stable)]
-        return [-7] if told[0] > len(stable) else [0] + stable[told[0] - 1]
+        if any(place > len(stable) for place in told):
+            return [-7]
+        chosen = [stable[place - 1] for place in told]
+        return [0] + (chosen[0] if number == 8 else plain.middle(*chosen))

@@ -125,6 +125,19 @@ class LanguageTest(unittest.TestCase):
             used = {x.id for x in ast.walk(tree) if isinstance(x, ast.Name) and isinstance(x.ctx, ast.Load)}
             self.assertEqual(used - bound - BUILT_IN, set(), name)
 
+    def test_locals_are_not_called_like_an_import_or_a_class(self):
+        for name, tree in self.trees.items():
+            taken = {x.name for x in ast.walk(tree) if isinstance(x, (ast.alias, ast.ClassDef))}
+            given = {x.arg for x in ast.walk(tree) if isinstance(x, ast.arg)}
+            given |= {x.id for x in ast.walk(tree) if isinstance(x, ast.Name) and isinstance(x.ctx, ast.Store)}
+            self.assertEqual(taken & given, set(), name)
+
+    def test_no_name_is_a_method_and_a_value(self):
+        methods = {x.name for name, node in self.nodes(ast.ClassDef) for x in node.body
+                   if isinstance(x, ast.FunctionDef)}
+        values = {node.attr for name, node in self.nodes(ast.Attribute) if isinstance(node.ctx, ast.Store)}
+        self.assertEqual(methods & values, set())
+
     def test_methods(self):
         own = {node.name for name, node in self.nodes(ast.FunctionDef)}
         for name, node in self.nodes(ast.Call):

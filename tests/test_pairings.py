@@ -2,11 +2,8 @@
 
 import unittest
 
-from tests.helper import (COUNT, PAIRS, THREE_STABLE, ask, ask_after, check, circle, give_list, group, nth, open_group,
-                          partners)
-
-# Everybody likes all others, in the same order.
-SAME_ORDER = [[other for other in range(1, 8) if other != guest] for guest in range(1, 8)]
+from tests.helper import (COUNT, PAIRS, SAME_ORDER, THREE_STABLE, ask, ask_after, check, circle, give_list, group, nth,
+                          open_group, partners)
 
 
 class PairsTest(unittest.TestCase):

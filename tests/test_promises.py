@@ -3,8 +3,10 @@
 import random
 import unittest
 
-from tests.helper import (BIG, COUNT, PAIRS, RINGS, THREE_STABLE, Plain, PlainGroup, ask, ask_after, check, circle,
-                          give_list, nth, open_group, partners, prove)
+from tests.helper import (BIG, COUNT, FOUR_STABLE, PAIRS, RINGS, THREE_STABLE, Plain, PlainGroup, ask, ask_after, blocks,
+                          check, circle, give_list, median, nth, open_group, partners, prefer, prove, settle)
+
+WITH_ROW = (1, 4, 5, 10, 11, 13)
 
 
 def some_lists(source, guests, fullness):
@@ -38,6 +40,7 @@ def some_groups():
         yield renamed(source, circle(6))
         yield renamed(source, circle(4) + [[6], [5], []])
         yield renamed(source, THREE_STABLE)
+        yield renamed(source, FOUR_STABLE)
 
 
 class PromisesTest(unittest.TestCase):
@@ -78,6 +81,37 @@ class PromisesTest(unittest.TestCase):
                                                 plain.better(partner, guest, other[partner - 1]))
         self.assertGreater(several, 10)
 
+    def test_the_middle_of_three_is_stable(self):
+        fourth = 0
+        for lists in some_groups():
+            count = ask_after(lists, COUNT)[0][2]
+            places = range(1, count + 1)
+            stable = [told[1:] for told in ask_after(lists, *[nth(k) for k in places])]
+            triples = [(x, y, z) for x in places for y in places for z in places]
+            told = ask_after(lists, *[median(*triple) for triple in triples])
+            for triple, answer in zip(triples, told, strict=True):
+                with self.subTest(lists=lists, triple=triple):
+                    self.assertEqual(answer[0], 0)
+                    self.assertIn(answer[1:], stable)
+                    self.assertEqual(ask_after(lists, check(answer[1:]), blocks(answer[1:])), [[0, 0], [0, 0]])
+                    self.assertEqual(answer[1:], Plain(lists).middle(*[stable[k - 1] for k in triple]))
+                    fourth += answer[1:] not in [stable[k - 1] for k in triple]
+            self.assertEqual(ask_after(lists, median(count + 1, 1, 1), median(1, count + 1, 1)), [[-7], [-7]])
+        self.assertGreater(fourth, 10)
+
+    def test_what_settles_is_stable(self):
+        without_end = 0
+        for lists in some_groups():
+            with self.subTest(lists=lists):
+                done, *row = ask_after(lists, settle(50, [0] * len(lists)))[0][1:]
+                told = ask_after(lists, blocks(row), check(row), settle(50, row))
+                if done < 50:
+                    self.assertEqual(told, [[0, 0], [0, 0], [0, 0] + row])
+                else:
+                    without_end += 1
+                    self.assertGreater(told[0][1], 0)
+        self.assertGreater(without_end, 20)
+
 
 class AgainstTheWordsTest(unittest.TestCase):
     def test_all_answers_about_some_groups(self):
@@ -109,41 +143,102 @@ class AgainstTheWordsTest(unittest.TestCase):
                     self.assertEqual(ask_after(lists, check(row), prove(row)),
                                      [[0] + plain.judge_pairing(row), [0] + plain.judge_rings(row)])
 
-    def some_number(self, source, most):
-        return source.choice([source.randint(1, most)] * 12 + [0, 7, 8, -1, BIG, -BIG, 1000, 1001])
+    def test_blocks_settle_and_prefer(self):
+        source = random.Random(19)
+        for lists in some_groups():
+            plain = Plain(lists)
+            for row in [source.choice(plain.pairings()) for turn in range(3)]:
+                times = source.choice([0, 1, 2, 5, 50])
+                with self.subTest(lists=lists, row=row, times=times):
+                    self.assertEqual(ask_after(lists, blocks(row), settle(times, row)),
+                                     [[0] + plain.blocks(row), [0] + plain.settle(times, row)])
+            guest = source.choice(plain.all)
+            others = [0] + [other for other in plain.all if plain.share(guest, other)]
+            for a in others:
+                for b in others:
+                    with self.subTest(lists=lists, guest=guest, a=a, b=b):
+                        self.assertEqual(ask_after(lists, prefer(guest, a, b)), [[0, plain.prefer(guest, a, b)]])
 
-    def some_call(self, source, guests):
-        kind = source.choice([0, 1, 1, 1, 1, 1, 1, 1, 1, 2, 3, 4, 4, 5, 5, 6, 7, 8])
-        told = []
-        row = []
-        if kind == 8:
-            told = [self.some_number(source, 2)]
-        elif kind in (0, 1, 6):
-            told = [self.some_number(source, guests)]
+
+class LinesTest(unittest.TestCase):
+    """Lines of all kinds of calls, each drawn with an eye on what the second program has at that place."""
+
+    KINDS = [0] + [1] * 8 + [2, 3, 4, 4, 5, 5, 6, 7, 8, 9, 9, 10, 10, 11, 11, 12, 12, 12, 13, 13, 14, 14, 15, 15, 15, 16]
+
+    def some_number(self, source, least, most):
+        return source.choice([source.randint(least, most)] * 20 + [0, 7, 8, -1, BIG, -BIG, 1000, 1001])
+
+    def some_numbers(self, source, kind, guests):
+        if kind in (8, 9):
+            return [self.some_number(source, 1, 2) for place in range(1 if kind == 8 else 3)]
+        if kind == 11:
+            return [source.choice([0, 1, 2, 3, 10, 49, 50, 50, 51, -1])]
+        if kind == 12:
+            return [self.some_number(source, least, guests) for least in (1, 0, 0)]
+        if kind == 15:
+            return [self.some_number(source, 1, guests) for place in range(2)]
+        return [self.some_number(source, 1, guests)] if kind in (0, 1, 6) else []
+
+    def some_row(self, source, kind, told, guests, other):
+        everybody = range(1, guests + 1)
         if kind == 1:
-            row = [other for other in range(1, guests + 1) if other != told[0]]
+            row = [guest for guest in everybody if guest != told[0]]
             source.shuffle(row)
-            row = row[:source.choice([0, 1, 2, 7, 7, 7])]
-        elif kind in (4, 5):
-            row = [source.randint(kind - 4, guests) for guest in range(guests)]
-            if source.random() < 0.6:
-                row = source.sample(range(1, guests + 1), guests)
-        if kind in (1, 4, 5) and source.random() < 0.15:
-            row = row + [source.choice([0, 1, 2, 3, 7, 8, -1, BIG])]
+            return row[:source.choice([0, 1, 2, 7, 7, 7, 7, 7])]
+        if kind != 5 and other.lists is not None and source.random() < 0.7:
+            return list(source.choice(other.plain.pairings()))
+        if source.random() < 0.6:
+            return source.sample(everybody, guests)
+        return [source.randint(0, guests) for guest in everybody]
+
+    def some_call(self, source, guests, other):
+        kind = source.choice(self.KINDS)
+        told = self.some_numbers(source, kind, guests)
+        row = []
+        if kind in WITH_ROW:
+            row = self.some_row(source, kind, told, guests, other)
+            if source.random() < 0.12:
+                row = row + [source.choice([0, 1, 2, 3, 7, 8, -1, BIG])]
+        # Two who would rather share seldom come up by chance.
+        if kind == 15 and other.booked is not None and source.random() < 0.5:
+            pairs = other.plain.blocks(other.booked)[1:] if other.plain.is_pairing(other.booked) else []
+            if pairs:
+                place = source.randrange(0, len(pairs), 2)
+                told = source.sample(pairs[place:place + 2], 2)
         return kind, told, row
+
+    def some_line(self, source):
+        """The calls of a line as they are written, and what the second program answers to each."""
+        other = PlainGroup()
+        guests = source.choice([1, 2, 3, 3, 4, 4, 5, 5, 6])
+        opened_at = source.randint(0, 3)
+        written = []
+        wanted = []
+        for place in range(90):
+            kind, told, row = (0, [guests], []) if place == opened_at else self.some_call(source, guests, other)
+            # Those that come ahead of it don't open the group with another number of guests.
+            if kind == 0 and place < opened_at:
+                told = [8]
+            wanted.append(other.answer(kind, told, row))
+            written.append([kind] + told + ([len(row)] + row if kind in WITH_ROW else []))
+        return written, wanted
 
     def test_lines_of_all_kinds_of_calls(self):
         source = random.Random(13)
+        seen = {}
         for turn in range(120):
-            guests = source.choice([1, 2, 3, 3, 4, 4, 5, 5, 6])
-            calls = [self.some_call(source, guests) for place in range(source.randint(0, 3))]
-            calls.append((0, [guests], []))
-            calls += [self.some_call(source, guests) for place in range(60)]
-            other = PlainGroup()
-            wanted = [other.answer(*call) for call in calls]
-            written = [[kind] + told + ([len(row)] + row if kind in (1, 4, 5) else []) for kind, told, row in calls]
+            written, wanted = self.some_line(source)
+            for call, answer in zip(written, wanted):
+                seen.setdefault(call[0], set()).add(min(answer[0], 0))
             with self.subTest(turn=turn):
                 self.assertEqual(ask(written), wanted)
+        # Each call was accepted, and refused in each way that is told with it.
+        self.assertEqual(seen, {
+            0: {0, -1, -3}, 1: {0, -1, -2, -4, -5}, 2: {0, -2}, 3: {0, -2}, 4: {0, -1, -2, -6}, 5: {0, -1, -2, -6},
+            6: {0, -1, -2, -4}, 7: {0, -2}, 8: {0, -1, -2, -7}, 9: {0, -1, -2, -7}, 10: {0, -1, -2, -6, -8},
+            11: {0, -1, -2, -6, -8}, 12: {0, -1, -2, -4, -9}, 13: {0, -1, -2, -6, -8}, 14: {0, -2, -10},
+            15: {0, -1, -2, -4, -8, -9, -10}, 16: {0, -2},
+        })
 
     def test_lists_given_anew_again_and_again(self):
         source = random.Random(17)
